@@ -1,0 +1,1 @@
+"""Foeholes: texts with holes that a foe fills."""
