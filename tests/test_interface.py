@@ -20,6 +20,26 @@ LISTED = {
         ("as_one", "(row)"),
         ("heard_by", "(web, text)"),
     ),
+    "foeholes.lots": (
+        ("is_lot", "(thing)"),
+        ("is_word", "(lot, text)"),
+        ("how_many", "(lot, length)"),
+        ("first_word", "(lot)"),
+        ("is_endless", "(lot)"),
+    ),
+    "foeholes.frames": (
+        ("is_frame", "(web, thing)"),
+        ("due_tellings", "(web, frame, words)"),
+        ("whole", "(frame, texts)"),
+        ("wrong_at", "(web, frame, words, texts)"),
+    ),
+    "foeholes.standings": (
+        ("piece_leads", "(web, frame, i, standing)"),
+        ("hole_leads", "(web, frame, i, standing, text)"),
+        ("behind", "(web, frame, i, standing, word)"),
+        ("come_to", "(web, frame)"),
+        ("is_standing", "(web, frame, i, thing)"),
+    ),
 }
 
 
