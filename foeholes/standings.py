@@ -34,6 +34,14 @@ def is_standing(web, frame, i, thing):
     return come[listener] == len(texts[listener])
 
 
+def is_pair(web, frame, thing):
+    """Of anything, whether it is a pair of a hole's number and a standing at that hole."""
+    if not is_tuple(thing, 2, 2):
+        return False
+    i, standing = thing
+    return is_number_below(i, len(frame[1])) and is_standing(web, frame, i, standing)
+
+
 def are_row_states(row, thing):
     """Whether the thing is a tuple of the numbers of states, one for each reader of the row."""
     if not is_tuple(thing, len(row), len(row)):
@@ -140,7 +148,7 @@ def behind_lot(web, frame, i, standings, lot):
             found[past_hole(listener, here)] = True
         if here not in steps:
             steps[here] = steps_from(web, texts, listener, here)
-        for told, after in steps[here]:
+        for sign, told, after in steps[here]:
             way = lot_on(lot, told, state=state)
             if way is not None and (after, way) not in known:
                 known.add((after, way))
@@ -149,6 +157,6 @@ def behind_lot(web, frame, i, standings, lot):
 
 
 def steps_from(web, texts, listener, standing):
-    """What the listener tells, and the standing behind, by each of the web's signs by which all others go on."""
-    reads = [read_by_all(web, texts, listener, standing, sign) for sign in web_signs(web)]
-    return [read for read in reads if read is not None]
+    """For each of the web's signs by which all others go on: it, what the listener tells, the standing behind."""
+    reads = [(sign, read_by_all(web, texts, listener, standing, sign)) for sign in web_signs(web)]
+    return [(sign, *read) for sign, read in reads if read is not None]

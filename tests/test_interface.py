@@ -40,6 +40,34 @@ LISTED = {
         ("come_to", "(web, frame)"),
         ("is_standing", "(web, frame, i, thing)"),
     ),
+    "foeholes.winning": (
+        ("writer_wins", "(web, frame)"),
+        ("good", "(web, frame)"),
+        ("is_shield", "(web, frame, thing)"),
+    ),
+    "foeholes.writing": (
+        ("price", "(web, frame, i, standing, word)"),
+        ("text_for", "(web, frame, i, standing, word)"),
+    ),
+    "foeholes.foe": (
+        ("is_winning", "(web, frame, thing)"),
+        ("book", "(web, frame)"),
+        ("played", "(web, frame, book, answer)"),
+    ),
+}
+
+CLASSES = {
+    ("foeholes.writing", "Writer"): (
+        ("__init__", "(self, web, frame)"),
+        ("write", "(self, word)"),
+        ("words", "(self)"),
+        ("texts", "(self)"),
+        ("text", "(self)"),
+        ("standing", "(self)"),
+        ("signs", "(self)"),
+        ("take_back", "(self, many)"),
+        ("fork", "(self)"),
+    ),
 }
 
 
@@ -52,3 +80,12 @@ class TestInterface(unittest.TestCase):
                     self.assertTrue(inspect.isfunction(told))
                     self.assertEqual(told.__module__, module)
                     self.assertEqual(str(inspect.signature(told)), arguments)
+
+    def test_each_class_stands_in_its_file_with_its_own_methods(self):
+        for (module, name), methods in CLASSES.items():
+            told = getattr(importlib.import_module(module), name)
+            self.assertTrue(inspect.isclass(told))
+            self.assertEqual(told.__module__, module)
+            for method, arguments in methods:
+                with self.subTest(module=module, name=name, method=method):
+                    self.assertEqual(str(inspect.signature(vars(told)[method])), arguments)
