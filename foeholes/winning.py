@@ -126,7 +126,8 @@ class Prospect:
         self.ends = all_ends(amid, aims)
         self.alive = all_alive(amid, self.ends)
         self.alone = all_alone(amid, self.ends, self.alive)
-        self._covered = [[] for state in amid.lot[1]]
+        # For each state sets of places that do for all words behind them: of each two both have what the other lacks.
+        self.covered = [[] for state in amid.lot[1]]
         self.missing = {standing: self._first_missing(standing) for standing in amid.standings}
 
     def good(self):
@@ -135,7 +136,7 @@ class Prospect:
 
     def _first_missing(self, standing):
         """The least word of the lot by which no text leads to what is aimed at; None where each has one."""
-        seen = [list(sets) for sets in self._covered]
+        seen = [list(sets) for sets in self.covered]
         ahead = []
         self._note(ahead, seen, 0, self.amid.set_of(standing), "")
         at = 0
@@ -147,7 +148,7 @@ class Prospect:
                 self._note(ahead, seen, way, behind, word + sign)
             at += 1
         # Nothing is missing behind any of these, so none of them has to be looked at for another standing.
-        self._covered = seen
+        self.covered = seen
         return None
 
     def lacks_end(self, state, places):
@@ -191,7 +192,7 @@ def all_ends(amid, aims):
         if amid.lot[1][state][1] and beyond == "" and amid.afters[standing] in aims:
             ends[state][number] = [1]
     amid.through_silence(ends)
-    return [sum([1 << number for number, (end,) in enumerate(row) if end]) for row in ends]
+    return [sum([1 << at for at, (end,) in enumerate(row) if end]) for row in ends]
 
 
 def all_alive(amid, ends):
@@ -201,11 +202,16 @@ def all_alive(amid, ends):
     while again:
         again = False
         for state, number in reversed(amid.order):
-            ways = zip(amid.lot[1][state][0], amid.leads[state][number])
-            if not alive[state] >> number & 1 and any([places & alive[way] for way, places in ways if places]):
+            if not is_one_of(alive[state], number) and has_way_into(amid, alive, state, number):
                 alive[state] |= 1 << number
                 again = True
     return alive
+
+
+def has_way_into(amid, sets, state, number):
+    """Whether some sign leads from a place to one of these."""
+    ways = amid.lot[1][state][0]
+    return any([places & sets[way] for way, places in zip(ways, amid.leads[state][number]) if places])
 
 
 def all_alone(amid, ends, alive):
@@ -215,7 +221,7 @@ def all_alone(amid, ends, alive):
     while again:
         again = False
         for state, number in reversed(amid.order):
-            if alone[state] >> number & 1 and not stays_alone(amid, ends, alone, state, number):
+            if is_one_of(alone[state], number) and not stays_alone(amid, ends, alone, state, number):
                 alone[state] ^= 1 << number
                 again = True
     return alone
@@ -224,10 +230,15 @@ def all_alone(amid, ends, alive):
 def stays_alone(amid, ends, alone, state, number):
     """Whether a word may end with the place where one ends, and each sign leads to one place that is alone."""
     ways, may_end = amid.lot[1][state]
-    if may_end and not ends[state] >> number & 1:
+    if may_end and not is_one_of(ends[state], number):
         return False
     leads = zip(ways, amid.leads[state][number])
     return all([places & alone[way] for way, places in leads if way is not None])
+
+
+def is_one_of(places, number):
+    """Whether a set has the place of this number."""
+    return places >> number & 1 == 1
 
 
 def the_end():

@@ -54,6 +54,19 @@ LISTED = {
         ("book", "(web, frame)"),
         ("played", "(web, frame, book, answer)"),
     ),
+    "foeholes.makers": (
+        ("is_maker", "(web, frame, i, thing)"),
+        ("written", "(maker, lot, word)"),
+        ("wrong_word", "(web, frame, i, standing, maker)"),
+    ),
+    "foeholes.weaving": (
+        ("woven", "(web, dues)"),
+    ),
+    "foeholes.guides": (
+        ("guide", "(web, frame)"),
+        ("is_guide", "(web, frame, thing)"),
+        ("guided", "(web, frame, guide, i, standing, word)"),
+    ),
 }
 
 CLASSES = {
@@ -67,6 +80,24 @@ CLASSES = {
         ("signs", "(self)"),
         ("take_back", "(self, many)"),
         ("fork", "(self)"),
+    ),
+    ("foeholes.shelf", "Shelf"): (
+        ("__init__", "(self)"),
+        ("put", "(self, name, reader)"),
+        ("exchange", "(self, name, reader)"),
+        ("lay", "(self, name, rows, frame)"),
+        ("edit", "(self, name, i, piece)"),
+        ("drop", "(self, name)"),
+        ("undo", "(self)"),
+        ("readers", "(self)"),
+        ("frames", "(self)"),
+        ("looked", "(self)"),
+        ("reader", "(self, name)"),
+        ("web_and_frame", "(self, name)"),
+        ("writer_wins", "(self, name)"),
+        ("book", "(self, name)"),
+        ("writer", "(self, name)"),
+        ("__eq__", "(self, other)"),
     ),
 }
 

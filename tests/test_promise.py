@@ -1,13 +1,15 @@
-"""What the document's third point promises of webs and frames that are changed in some one way."""
+"""What the document's third point promises of all webs and frames, and of those that are changed in some one way."""
 
 import random
 import unittest
 
 from foeholes.foe import book, is_winning
 from foeholes.frames import is_frame
+from foeholes.guides import guide, is_guide
 from foeholes.readers import goes_along, is_reader
 from foeholes.rows import is_web
-from foeholes.standings import piece_leads
+from foeholes.shelf import Shelf
+from foeholes.standings import come_to, piece_leads
 from foeholes.winning import good, is_shield, writer_wins
 from foeholes.writing import Writer, price, text_for
 from tests.frame_samples import slow_words
@@ -137,14 +139,65 @@ class TestTheSame(unittest.TestCase):
                                          text_for(web, frame, i, here, word))
 
 
-class TestOneOfTwo(unittest.TestCase):
-    def test_the_writer_wins_or_a_book_does(self):
+class TestOnePaperOfTwo(unittest.TestCase):
+    def test_a_guide_or_a_book_and_never_both(self):
         for web, frame in some_plays(96, 400):
-            found = book(web, frame)
+            words, tables = book(web, frame), guide(web, frame)
             with self.subTest(web=web, frame=frame):
-                self.assertEqual(writer_wins(web, frame), found is None)
-                self.assertEqual(is_shield(web, frame, good(web, frame)), found is None)
-                self.assertEqual(is_winning(web, frame, found), found is not None)
+                won = writer_wins(web, frame)
+                self.assertEqual((words is None, tables is None), (won, not won))
+                self.assertEqual((is_winning(web, frame, words), is_guide(web, frame, tables)), (not won, won))
+                self.assertIs(is_shield(web, frame, good(web, frame)), won)
+
+    def test_no_guide_holds_where_a_book_wins(self):
+        chance = random.Random(97)
+        for web, frame in some_plays(98, 200):
+            lists = come_to(web, frame)
+            words = {(i, here): chance.choice(slow_words(frame[1][i][1], 2) or [""])
+                     for i, part in enumerate(lists) for here in part}
+            tables = guide(web, frame)
+            self.assertFalse(tables is not None and is_winning(web, frame, words))
+
+
+class TestTheShelf(unittest.TestCase):
+    def laid(self, web, frame):
+        """A shelf with one frame, f, and a name for each place of its rows."""
+        shelf = Shelf()
+        rows = tuple([tuple(["r" + "xyz"[k] + "xyz"[j] for j in range(len(row))]) for k, row in enumerate(web)])
+        for names, row in zip(rows, web):
+            for name, reader in zip(names, row):
+                shelf.put(name, reader)
+        shelf.lay("f", rows, frame)
+        return shelf
+
+    def test_it_tells_what_is_told_of_the_web_and_frame(self):
+        for web, frame in some_plays(100, 150):
+            shelf = self.laid(web, frame)
+            for _ in range(2):
+                self.assertEqual(shelf.web_and_frame("f"), (web, frame))
+                self.assertIs(shelf.writer_wins("f"), writer_wins(web, frame))
+                self.assertEqual(shelf.book("f"), book(web, frame))
+            self.assertEqual(shelf, self.laid(web, frame))
+
+    def test_what_the_writer_wins_it_wins_still_where_readers_go_along(self):
+        chance = random.Random(101)
+        exchanges = 0
+        for web, frame in some_plays(102, 300):
+            shelf = self.laid(web, frame)
+            shelf.looked()
+            if not shelf.writer_wins("f"):
+                continue
+            for name in shelf.readers():
+                reader = shelf.reader(name)
+                other = loosened(chance, reader)
+                shelf.exchange(name, other)
+                exchanges += other != reader
+                self.assertIs(shelf.writer_wins("f"), True)
+                self.assertIs(shelf.book("f"), None)
+                self.assertEqual(shelf.looked(), [] if other == reader else ["f"])
+            self.assertEqual([shelf.undo() for _ in shelf.readers()], ["exchange"] * len(shelf.readers()))
+            self.assertEqual(shelf.web_and_frame("f"), (web, frame))
+        self.assertGreater(exchanges, 20)
 
 
 if __name__ == "__main__":
