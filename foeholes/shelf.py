@@ -6,7 +6,6 @@ from foeholes.frames import is_frame
 from foeholes.readers import is_reader
 from foeholes.rows import is_web
 from foeholes.signs import is_number_below
-from foeholes.winning import writer_wins
 from foeholes.writing import Writer
 
 MOST_KEPT = 8
@@ -51,6 +50,8 @@ class Shelf:
         # By its name each frame with its rows of readers' names.
         self._frames = {}
         self._looked = {}
+        # By their names the books of frames, or None, that were asked for since these were looked at.
+        self._books = {}
         # For each deed that stands its word, and the readers and frames as they were ahead of it.
         self._deeds = []
 
@@ -152,13 +153,15 @@ class Shelf:
 
     def writer_wins(self, name):
         """Whether the writer wins the frame of this name."""
-        web, frame = self.web_and_frame(name)
-        return writer_wins(web, frame)
+        return self.book(name) is None
 
     def book(self, name):
         """The foe's book for the frame of this name, None where the writer wins."""
         web, frame = self.web_and_frame(name)
-        return book(web, frame)
+        if name not in self._books:
+            self._books[name] = book(web, frame)
+        words = self._books[name]
+        return None if words is None else {key: words[key] for key in words}
 
     def writer(self, name):
         """A writer for the frame of this name."""
@@ -183,5 +186,6 @@ class Shelf:
             rows, frame = frames[name]
             if name not in self._frames or (web_of(readers, rows), frame) != self.web_and_frame(name):
                 self._looked[name] = True
+                self._books.pop(name, None)
         self._readers = readers
         self._frames = frames
